@@ -105,12 +105,11 @@ func stopped(before func() *pair, row []step, n int) (p *pair, beyond bool) {
 	return p, !p.disk.Down()
 }
 
-// everywhere does row on a disk that stops behind each number of calls (of more than 48 not behind each), and then
-// crashes, by each choice of what it keeps, and hands on each stage that is opened then; before makes the stage,
-// the same each time.
+// everywhere does row on a disk that stops behind each number of calls, and then crashes, by each choice of
+// what it keeps, and hands on each stage that is opened then; before makes the stage, the same each time.
 func everywhere(before func() *pair, row []step, then func(p *pair)) {
 	d := dice(len(row))
-	for n := 0; ; n += 1 + n/48 {
+	for n := 0; ; n++ {
 		p, beyond := stopped(before, row, n)
 		for _, keep := range choices(&d, dirty(p)) {
 			p, _ := stopped(before, row, n)
